@@ -1,0 +1,1 @@
+"""Freshsheet: a book of sheets, and papers that show that it is fresh."""

@@ -1,0 +1,178 @@
+"""The form of the package's own files: the rules that can be seen in a file's tree."""
+
+import ast
+import builtins
+import pathlib
+import re
+import unittest
+
+PACKAGE = pathlib.Path(__file__).resolve().parent.parent / "freshsheet"
+OWN_NAMES = set("""len range enumerate zip min max sum abs sorted reversed int str bool list tuple dict set frozenset
+    isinstance ord repr any all divmod Exception ValueError TypeError KeyError IndexError LookupError
+    ZeroDivisionError ArithmeticError OverflowError RuntimeError NotImplementedError AttributeError
+    StopIteration""".split())
+OWN_METHODS = set("""append clear copy count endswith extend find get index insert isalnum isalpha isdigit islower
+    isspace isupper items join keys ljust lower lstrip partition pop remove replace reverse rfind rjust rpartition
+    rsplit rstrip setdefault split splitlines startswith strip update upper values zfill bit_length""".split())
+DUNDERS = {"__init__", "__eq__", "__repr__", "__str__", "__len__"}
+STATEMENTS = (ast.FunctionDef, ast.ClassDef, ast.Assign, ast.AugAssign, ast.If, ast.While, ast.For, ast.Return,
+              ast.Break, ast.Continue, ast.Pass, ast.Raise, ast.Try, ast.Expr, ast.ImportFrom)
+EXPRESSIONS = (ast.Constant, ast.Name, ast.List, ast.Tuple, ast.Dict, ast.Set, ast.BinOp, ast.UnaryOp, ast.Compare,
+               ast.BoolOp, ast.IfExp, ast.Call, ast.Attribute, ast.Subscript, ast.Slice, ast.ListComp, ast.JoinedStr,
+               ast.FormattedValue, ast.Lambda)
+TOP_STATEMENTS = (ast.Expr, ast.ImportFrom, ast.FunctionDef, ast.ClassDef, ast.Assign)
+UNUSED_NAMES = set("""register mro elements open input version_info with_traceback add_note format format_map
+    attrgetter breakpoint builtins compile copyright credits delattr dir eval exec exit gc getattr globals hasattr help
+    id importlib license locals methodcaller os quit setattr super type vars sys chr""".split())
+UNUSED_WORDS = re.compile(r"\b(type|typing|typing_extensions|enum|Enum|IntEnum|StrEnum|Flag|IntFlag|Generic|Protocol"
+                          r"|ABC|ABCMeta|namedtuple|NamedTuple|TypedDict|TYPE_CHECKING|abstractmethod)\b"
+                          r"|dataclass|overload|contextmanager")
+PLAIN_NAME = re.compile(r"[A-Za-z][A-Za-z0-9_]*\Z")
+
+
+def sources():
+    """Pairs of a file's name and its text."""
+    return [(path.name, path.read_bytes().decode("ascii")) for path in sorted(PACKAGE.glob("*.py"))]
+
+
+def trees():
+    return [(name, ast.parse(text)) for name, text in sources()]
+
+
+def nodes():
+    """Triples of a file's name, a node and its line."""
+    return [(name, node, getattr(node, "lineno", 0)) for name, tree in trees() for node in ast.walk(tree)]
+
+
+def bound_names(node):
+    """The names that a node binds."""
+    if isinstance(node, (ast.FunctionDef, ast.ClassDef)):
+        return [node.name]
+    if isinstance(node, ast.arg):
+        return [node.arg]
+    if isinstance(node, ast.Name) and isinstance(node.ctx, ast.Store):
+        return [node.id]
+    if isinstance(node, ast.Attribute) and isinstance(node.ctx, ast.Store):
+        return [node.attr]
+    return []
+
+
+def top_names(tree):
+    """The names that a file's own top defines, imports aside."""
+    names = []
+    for row in tree.body:
+        if isinstance(row, (ast.FunctionDef, ast.ClassDef)):
+            names.append(row.name)
+        if isinstance(row, ast.Assign):
+            names.append(row.targets[0].id)
+    return names
+
+
+class LanguageTest(unittest.TestCase):
+    def assert_each(self, is_right, nodes_told):
+        for name, node, line in nodes_told:
+            self.assertTrue(is_right(node), f"{name}, line {line}: {ast.dump(node)[:200]}")
+
+    def of_kind(self, *kinds):
+        return [told for told in nodes() if isinstance(told[1], kinds)]
+
+    def test_files(self):
+        for path in PACKAGE.iterdir():
+            if path.name != "__pycache__":
+                self.assertRegex(path.name, r"\A([a-z][a-z0-9_]*|__init__|__main__)\.py\Z")
+                self.assertNotRegex(path.name, r"\A(test|site|conftest|sitecustomize|usercustomize)")
+
+    def test_signs_and_sizes(self):
+        for name, text in sources():
+            self.assertRegex(text, r"\A[ -~\n]*\Z", name)
+            self.assertLessEqual(len(text.splitlines()), 400, name)
+            self.assertLessEqual(max(len(line) for line in text.splitlines()), 120, name)
+        self.assert_each(lambda node: node.end_lineno - node.lineno < 40, self.of_kind(ast.FunctionDef))
+
+    def test_words_that_are_not_used(self):
+        for name, text in sources():
+            self.assertNotRegex(text, UNUSED_WORDS, name)
+
+    def test_statements(self):
+        self.assert_each(lambda node: isinstance(node, STATEMENTS), self.of_kind(ast.stmt))
+        self.assert_each(lambda node: len(node.targets) == 1, self.of_kind(ast.Assign))
+        self.assert_each(lambda node: not node.orelse, self.of_kind(ast.For, ast.While))
+        self.assert_each(lambda node: not node.finalbody, self.of_kind(ast.Try))
+        self.assert_each(lambda node: node.type is not None, self.of_kind(ast.ExceptHandler))
+        self.assert_each(lambda node: isinstance(node.value, ast.Call) or isinstance(node.value, ast.Constant),
+                         self.of_kind(ast.Expr))
+
+    def test_expressions(self):
+        self.assert_each(lambda node: isinstance(node, EXPRESSIONS), self.of_kind(ast.expr))
+        self.assert_each(lambda node: not isinstance(node.op, (ast.Div, ast.MatMult)),
+                         self.of_kind(ast.BinOp, ast.AugAssign))
+        self.assert_each(lambda node: node.value is None or isinstance(node.value, (int, str)),
+                         self.of_kind(ast.Constant))
+        self.assert_each(lambda node: len(node.generators) == 1 and len(node.generators[0].ifs) <= 1,
+                         self.of_kind(ast.ListComp))
+        self.assert_each(lambda node: isinstance(node.value, ast.Name), self.of_kind(ast.FormattedValue))
+        powers = [told for told in self.of_kind(ast.BinOp) if isinstance(told[1].op, ast.Pow)]
+        self.assert_each(lambda node: isinstance(node.right, ast.Constant) and 0 <= node.right.value <= 64, powers)
+        texts = [told for told in self.of_kind(ast.Constant) if isinstance(told[1].value, str)]
+        self.assert_each(lambda node: "%" not in node.value, texts)
+
+    def test_is_stands_beside_none_and_truths(self):
+        tests = [told for told in self.of_kind(ast.Compare)
+                 if any(isinstance(op, (ast.Is, ast.IsNot)) for op in told[1].ops)]
+        self.assert_each(lambda node: isinstance(node.comparators[0], ast.Constant)
+                         and node.comparators[0].value in (None, True, False), tests)
+
+    def test_functions_and_classes(self):
+        self.assert_each(lambda node: not node.decorator_list, self.of_kind(ast.FunctionDef, ast.ClassDef))
+        self.assert_each(lambda node: not (node.vararg or node.kwarg or node.kwonlyargs or node.posonlyargs),
+                         self.of_kind(ast.arguments))
+        self.assert_each(lambda node: len(node.bases) <= 1 and not node.keywords, self.of_kind(ast.ClassDef))
+        for name, node, line in self.of_kind(ast.ClassDef):
+            self.assert_each(lambda row: isinstance(row, ast.FunctionDef) or isinstance(row, ast.Expr),
+                             [(name, row, row.lineno) for row in node.body])
+
+    def test_names(self):
+        for name, node, line in nodes():
+            for bound in bound_names(node):
+                self.assertTrue(bound in DUNDERS or PLAIN_NAME.match(bound), f"{name}, line {line}: {bound}")
+                self.assertNotIn(bound, UNUSED_NAMES, f"{name}, line {line}")
+                if not isinstance(node, ast.Attribute):
+                    self.assertFalse(bound in vars(builtins), f"{name}, line {line}: {bound}")
+
+    def test_names_of_pythons_own(self):
+        for name, node, line in self.of_kind(ast.Name):
+            if node.id in vars(builtins):
+                self.assertIn(node.id, OWN_NAMES, f"{name}, line {line}")
+
+    def test_methods(self):
+        own = {node.name for name, node, line in self.of_kind(ast.FunctionDef)}
+        calls = [told for told in self.of_kind(ast.Call) if isinstance(told[1].func, ast.Attribute)]
+        self.assert_each(lambda node: node.func.attr in OWN_METHODS or node.func.attr in own
+                         or node.func.attr in DUNDERS, calls)
+
+    def test_tops(self):
+        for name, tree in trees():
+            self.assertIsNotNone(ast.get_docstring(tree), name)
+            self.assert_each(lambda row: isinstance(row, TOP_STATEMENTS),
+                             [(name, row, row.lineno) for row in tree.body])
+            names = top_names(tree)
+            self.assertEqual(len(names), len(set(names)), name)
+
+    def test_imports(self):
+        tops = {name[:-3]: top_names(tree) for name, tree in trees()}
+        drawn = {name: [] for name in tops}
+        for name, node, line in self.of_kind(ast.ImportFrom):
+            self.assertEqual(node.level, 0, f"{name}, line {line}")
+            self.assertRegex(node.module, r"\Afreshsheet\.[a-z0-9_]+\Z")
+            file = node.module.partition(".")[2]
+            drawn[name[:-3]].append(file)
+            for alias in node.names:
+                self.assertIn(alias.name, tops[file], f"{name}, line {line}")
+        while drawn:
+            free = [name for name in drawn if not any(file in drawn for file in drawn[name])]
+            self.assertTrue(free, "files that draw from one another")
+            drawn = {name: files for name, files in drawn.items() if name not in free}
+
+
+if __name__ == "__main__":
+    unittest.main()
