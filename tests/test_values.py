@@ -195,7 +195,8 @@ class ValueTextsTest(unittest.TestCase):
 
     def test_words_and_great_letters(self):
         self.assert_no_text("1x", "x1", "1/2x", "-x", "YES", "Yes", "NO", "No", "y", "n", "yesno", "yess",
-                            "true", "True", "none", "a", "A", "'A", "'aB", "!Ring main!B3", "!RING main!B3", "!ring Main!B3", "!ring main!b3")
+                            "true", "True", "none", "a", "A", "'A", "'aB", "!Ring main!B3", "!RING main!B3",
+                            "!ring Main!B3", "!ring main!b3")
 
     def test_blanks_where_none_belong(self):
         self.assert_no_text(" ", "  ", " 1", "1 ", "1 /2", "1/ 2", " yes", "yes ", "no ", " 'a", " !ring main!B3",
