@@ -27,6 +27,8 @@ UNUSED_NAMES = set("""register mro elements open input version_info with_traceba
 UNUSED_WORDS = re.compile(r"\b(type|typing|typing_extensions|enum|Enum|IntEnum|StrEnum|Flag|IntFlag|Generic|Protocol"
                           r"|ABC|ABCMeta|namedtuple|NamedTuple|TypedDict|TYPE_CHECKING|abstractmethod)\b"
                           r"|dataclass|overload|contextmanager")
+COPIERS = {"len", "list", "dict", "tuple", "sorted", "sum", "min", "max", "any", "all", "enumerate", "zip", "reversed"}
+FREE_VALUES = {"count", "index", "title", "find", "get", "join", "lower", "upper", "split", "strip", "copy", "add"}
 PLAIN_NAME = re.compile(r"[A-Za-z][A-Za-z0-9_]*\Z")
 
 
@@ -66,6 +68,29 @@ def top_names(tree):
         if isinstance(row, ast.Assign):
             names.append(row.targets[0].id)
     return names
+
+
+def top_holders(tree):
+    """The names of a file's own top that hold a list or a dict."""
+    return [row.targets[0].id for row in tree.body
+            if isinstance(row, ast.Assign) and isinstance(row.value, (ast.List, ast.Dict))]
+
+
+def reading_places(tree):
+    """The nodes that stand where a list or dict of a file's top may: read, or copied."""
+    places = []
+    for node in ast.walk(tree):
+        if isinstance(node, ast.Subscript) and isinstance(node.ctx, ast.Load):
+            places.append(node.value)
+        if isinstance(node, ast.Compare):
+            places.extend(node.comparators)
+        if isinstance(node, (ast.For, ast.comprehension)):
+            places.append(node.iter)
+        if isinstance(node, ast.Attribute) and node.attr in ("get", "items", "keys", "values", "index", "count"):
+            places.append(node.value)
+        if isinstance(node, ast.Call) and isinstance(node.func, ast.Name) and node.func.id in COPIERS:
+            places.extend(node.args)
+    return places
 
 
 class LanguageTest(unittest.TestCase):
@@ -149,6 +174,41 @@ class LanguageTest(unittest.TestCase):
         calls = [told for told in self.of_kind(ast.Call) if isinstance(told[1].func, ast.Attribute)]
         self.assert_each(lambda node: node.func.attr in OWN_METHODS or node.func.attr in own
                          or node.func.attr in DUNDERS, calls)
+
+    def test_lists_and_dicts_of_a_top_are_only_read(self):
+        holders = {name[:-3]: top_holders(tree) for name, tree in trees()}
+        for name, tree in trees():
+            held = list(holders[name[:-3]])
+            for row in tree.body:
+                if isinstance(row, ast.ImportFrom):
+                    file = row.module.partition(".")[2]
+                    held.extend(alias.name for alias in row.names if alias.name in holders[file])
+            places = reading_places(tree)
+            self.assert_each(lambda node: any(node is place for place in places),
+                             [(name, node, node.lineno) for node in ast.walk(tree) if isinstance(node, ast.Name)
+                              and node.id in held and isinstance(node.ctx, ast.Load)])
+
+    def test_methods_and_values_have_names_of_their_own(self):
+        methods = {row.name for name, node, line in self.of_kind(ast.ClassDef) for row in node.body
+                   if isinstance(row, ast.FunctionDef)}
+        taken = {name for kind in (str, int, list, dict, set, bytes, tuple) for name in dir(kind)}
+        for name in methods - DUNDERS - OWN_METHODS - {"add", "discard"}:
+            self.assertNotIn(name, taken)
+        for name, node, line in self.of_kind(ast.Attribute):
+            if isinstance(node.ctx, ast.Store):
+                self.assertNotIn(node.attr, methods, f"{name}, line {line}")
+                self.assertNotIn(node.attr, taken - FREE_VALUES, f"{name}, line {line}")
+
+    def test_no_local_is_called_like_a_class_or_an_import(self):
+        for name, tree in trees():
+            taken = [row.name for row in tree.body if isinstance(row, ast.ClassDef)]
+            for row in tree.body:
+                if isinstance(row, ast.ImportFrom):
+                    taken.extend(alias.name for alias in row.names)
+            for node in ast.walk(tree):
+                if not isinstance(node, (ast.ClassDef, ast.Attribute)):
+                    for bound in bound_names(node):
+                        self.assertNotIn(bound, taken, f"{name}, line {getattr(node, 'lineno', 0)}")
 
     def test_tops(self):
         for name, tree in trees():
