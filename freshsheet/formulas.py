@@ -46,15 +46,43 @@ def with_parts(formula, parts):
     return tuple(things)
 
 
+def block_led_to(reference):
+    """The block to which a cell or a range with its sheet told leads."""
+    first = reference[2]
+    last = reference[-1]
+    return (reference[1], first[0], first[1], last[0], last[1])
+
+
+def all_parts(formula):
+    """The list of all formulas that a formula is made of, itself among them, each behind its own parts."""
+    # No recursion here and in deepness: a text of many signs makes a deep tree before it is found too great, and an
+    # opened formula may be two hundred deep.
+    waiting = [formula]
+    row = []
+    while len(waiting) > 0:
+        part = waiting.pop()
+        row.append(part)
+        waiting.extend(parts_of(part))
+    return list(reversed(row))
+
+
 def count_parts(formula):
     """How many formulas a formula is made of, itself among them."""
-    # No recursion here and in deepness: a text of many signs makes a deep tree before it is found too great.
-    waiting = [formula]
-    many = 0
-    while len(waiting) > 0:
-        many += 1
-        waiting.extend(parts_of(waiting.pop()))
-    return many
+    return len(all_parts(formula))
+
+
+def told_by_parts(row, tell_one):
+    """What a function of a formula and of what it told of the formula's parts tells of the last one of a row.
+
+    The row has each formula behind its own parts, as all_parts tells it.
+    """
+    told = []
+    for formula in row:
+        first = len(told) - len(parts_of(formula))
+        one = tell_one(formula, told[first:])
+        told = told[:first]
+        told.append(one)
+    return told[0]
 
 
 def deepness(formula):

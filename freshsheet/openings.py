@@ -4,7 +4,7 @@ While it is opened, a formula is kept as a row: the list of its parts, each behi
 by putting rows into a row, and a row's length is the count of parts.
 """
 
-from freshsheet.formulas import parts_of, with_parts
+from freshsheet.formulas import parts_of, told_by_parts, with_parts
 from freshsheet.places import LAST_ROW
 
 MOST_OPENED = 200
@@ -98,19 +98,12 @@ class Opener:
                 filled.extend(opened[node[1]])
         return filled if len(filled) <= MOST_OPENED else None
 
-
-def tree_of(row):
-    """The formula whose row is told."""
-    trees = []
-    for node in row:
-        first = len(trees) - len(parts_of(node))
-        tree = with_parts(node, trees[first:])
-        trees = trees[:first]
-        trees.append(tree)
-    return trees[0]
+    def whole_of(self, formula):
+        """A formula, opened."""
+        row = self.row_of(formula, ())
+        return ("fault", "great") if row is None else told_by_parts(row, with_parts)
 
 
 def open_up(book, sheet, formula):
     """A formula on a sheet of a book, opened."""
-    row = Opener(book, sheet).row_of(formula, ())
-    return ("fault", "great") if row is None else tree_of(row)
+    return Opener(book, sheet).whole_of(formula)

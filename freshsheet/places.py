@@ -69,6 +69,11 @@ def cells_of(block):
     return cells
 
 
+def block_of_one(cell):
+    """The block of a single cell."""
+    return (cell[0], cell[1], cell[2], cell[1], cell[2])
+
+
 def blocks_meet(one, other):
     """Whether two blocks have a cell in common."""
     rows_meet = one[1] <= other[3] and other[1] <= one[3]

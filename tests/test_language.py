@@ -27,6 +27,9 @@ UNUSED_NAMES = set("""register mro elements open input version_info with_traceba
 UNUSED_WORDS = re.compile(r"\b(type|typing|typing_extensions|enum|Enum|IntEnum|StrEnum|Flag|IntFlag|Generic|Protocol"
                           r"|ABC|ABCMeta|namedtuple|NamedTuple|TypedDict|TYPE_CHECKING|abstractmethod)\b"
                           r"|dataclass|overload|contextmanager")
+WALKED = {"zip", "enumerate", "reversed", "range"}
+WALKED_METHODS = {"items", "keys", "values"}
+WALKERS = {"list", "tuple", "dict", "sorted", "sum", "any", "all", "enumerate", "zip"}
 COPIERS = {"len", "list", "dict", "tuple", "sorted", "sum", "min", "max", "any", "all", "enumerate", "zip", "reversed"}
 FREE_VALUES = {"count", "index", "title", "find", "get", "join", "lower", "upper", "split", "strip", "copy", "add"}
 PLAIN_NAME = re.compile(r"[A-Za-z][A-Za-z0-9_]*\Z")
@@ -90,6 +93,43 @@ def reading_places(tree):
             places.append(node.value)
         if isinstance(node, ast.Call) and isinstance(node.func, ast.Name) and node.func.id in COPIERS:
             places.extend(node.args)
+    return places
+
+
+def walking_places(tree):
+    """The nodes that stand where what is walked at once may."""
+    places = []
+    for node in ast.walk(tree):
+        if isinstance(node, (ast.For, ast.comprehension)):
+            places.append(node.iter)
+        if isinstance(node, ast.Call) and isinstance(node.func, ast.Name):
+            if node.func.id in WALKERS or (node.func.id in ("min", "max") and len(node.args) == 1):
+                places.extend(node.args[:1])
+        if isinstance(node, ast.Call) and isinstance(node.func, ast.Attribute) and node.func.attr == "join":
+            places.extend(node.args)
+    return places
+
+
+def is_walked_at_once(node):
+    if not isinstance(node, ast.Call):
+        return False
+    if isinstance(node.func, ast.Name):
+        return node.func.id in WALKED
+    return isinstance(node.func, ast.Attribute) and node.func.attr in WALKED_METHODS
+
+
+def set_places(tree):
+    """The nodes that stand where a set may: beside a comparison, or straight within sorted or len."""
+    places = []
+    for node in ast.walk(tree):
+        if isinstance(node, ast.Compare) and isinstance(node.ops[0], (ast.In, ast.NotIn, ast.Eq, ast.NotEq)):
+            places.extend([node.left] + node.comparators)
+        if isinstance(node, ast.Call) and isinstance(node.func, ast.Name) and node.func.id in ("sorted", "len"):
+            if not node.keywords:
+                places.extend(node.args)
+    for place in places:
+        if isinstance(place, ast.BinOp) and isinstance(place.op, (ast.Sub, ast.BitAnd, ast.BitOr, ast.BitXor)):
+            places.extend([place.left, place.right])
     return places
 
 
@@ -187,6 +227,20 @@ class LanguageTest(unittest.TestCase):
             self.assert_each(lambda node: any(node is place for place in places),
                              [(name, node, node.lineno) for node in ast.walk(tree) if isinstance(node, ast.Name)
                               and node.id in held and isinstance(node.ctx, ast.Load)])
+
+    def test_what_is_walked_at_once_is_not_kept(self):
+        for name, tree in trees():
+            places = walking_places(tree)
+            self.assert_each(lambda node: any(node is place for place in places),
+                             [(name, node, node.lineno) for node in ast.walk(tree) if is_walked_at_once(node)])
+
+    def test_sets_are_not_kept(self):
+        for name, tree in trees():
+            places = set_places(tree)
+            self.assert_each(lambda node: any(node is place for place in places),
+                             [(name, node, node.lineno) for node in ast.walk(tree) if isinstance(node, ast.Set)
+                              or isinstance(node, ast.Call) and isinstance(node.func, ast.Name)
+                              and node.func.id in ("set", "frozenset")])
 
     def test_methods_and_values_have_names_of_their_own(self):
         methods = {row.name for name, node, line in self.of_kind(ast.ClassDef) for row in node.body
