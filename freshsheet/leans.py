@@ -34,7 +34,24 @@ def is_mover(meaning):
     return meaning[0] == "formula" or meaning[0] == "part"
 
 
+def movers_among(meanings):
+    """The sorted list of the movers among the cells that have these meanings."""
+    return sorted([cell for cell in meanings if is_mover(meanings[cell])])
+
+
 def movers_of(book):
     """The sorted list of the movers of a book."""
-    meanings = meanings_by_cell(book)
-    return sorted([cell for cell in meanings if is_mover(meanings[cell])])
+    return movers_among(meanings_by_cell(book))
+
+
+def web_of(meanings):
+    """A dict from each mover among the cells that have these meanings to a dict of the movers on which it leans."""
+    movers = movers_among(meanings)
+    web = {}
+    for mover in movers:
+        web[mover] = {}
+    for mover in movers:
+        for cell in leanings_of(meanings[mover]):
+            if cell in web:
+                web[mover][cell] = True
+    return web
