@@ -76,7 +76,8 @@ class ShownTest(FreshCase):
     def test_faults_that_are_made_and_that_come(self):
         there = book({"A1": '="a"+1', "B1": "=1/0", "C1": "=#", "D1": "=lost", "E1": "=999999999*E2",
                       "F1": "=find(1;2;1)", "E2": "999999999999999999999999999999", "A2": "=A1", "B2": "=-B1",
-                      "C2": "=sum(C1:D1)", "D2": "=D1&A1", "F2": "=if(F1;1;2)", "G1": "=none!A1", "G2": "=G1:G1+1", "H1": "=lost(1)"})
+                      "C2": "=sum(C1:D1)", "D2": "=D1&A1", "F2": "=if(F1;1;2)", "G1": "=none!A1", "G2": "=G1:G1+1",
+                      "H1": "=lost(1)"})
         shown = {cell: fault(word, place(cell)) for cell, word in zip("A1 B1 C1 D1 E1 F1".split(), WORDS)}
         shown.update({"A2": shown["A1"], "B2": shown["B1"], "C2": shown["C1"], "D2": shown["D1"], "F2": shown["F1"],
                       "G1": fault("gone", place("G1")), "G2": fault("gone", place("G1")),
